@@ -1,0 +1,1 @@
+"""Hayherd: beasts in a row, where whoever passes pays."""

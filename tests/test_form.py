@@ -1,0 +1,103 @@
+"""The package keeps to the rules of ../shared/LANGUAGE.md that can be seen from the outside."""
+
+import ast
+import builtins
+import pathlib
+import re
+import unittest
+import warnings
+
+FOLDER = pathlib.Path(__file__).resolve().parent.parent / "hayherd"
+FILES = sorted(FOLDER.glob("*.py"))
+
+BUILTINS = set("""
+len range enumerate zip min max sum abs sorted reversed int str bool list tuple dict set isinstance ord
+repr any all divmod iter next super Exception ValueError TypeError KeyError IndexError LookupError
+ZeroDivisionError ArithmeticError OverflowError RuntimeError NotImplementedError AttributeError
+StopIteration NotImplemented
+""".split())
+BARRED_WORDS = set("""
+type typing typing_extensions enum Enum IntEnum StrEnum Flag IntFlag Generic Protocol ABC ABCMeta namedtuple
+NamedTuple TypedDict TYPE_CHECKING abstractmethod register mro elements open input version_info
+""".split())
+BARRED_NODES = (
+    ast.Import, ast.Global, ast.AsyncFunctionDef, ast.AsyncFor, ast.AsyncWith, ast.Await, ast.Div, ast.MatMult,
+)
+
+
+def bound_names(tree):
+    for node in ast.walk(tree):
+        if isinstance(node, (ast.FunctionDef, ast.ClassDef)):
+            yield node.name
+        elif isinstance(node, ast.arg):
+            yield node.arg
+        elif isinstance(node, ast.Name) and not isinstance(node.ctx, ast.Load):
+            yield node.id
+        elif isinstance(node, ast.alias):
+            yield node.asname or node.name
+
+
+def each_file():
+    for path in FILES:
+        text = path.read_bytes().decode("ascii")
+        yield path, text, ast.parse(text)
+
+
+class Form(unittest.TestCase):
+    def test_the_folder_has_its_files_alone(self):
+        found = {path.name for path in FOLDER.iterdir()} - {"__pycache__"}
+        self.assertEqual(found, {path.name for path in FILES})
+        self.assertLessEqual({"__init__.py", "errors.py", "rows.py", "ends.py"}, found)
+
+    def test_characters_and_sizes(self):
+        for path, text, tree in each_file():
+            self.assertIsNone(re.search(r"[^\n -~]", text))
+            self.assertTrue(text.endswith("\n"))
+            lines = text.splitlines()
+            self.assertLessEqual(len(lines), 400)
+            self.assertLessEqual(max(len(line) for line in lines), 120)
+            for node in ast.walk(tree):
+                if isinstance(node, ast.FunctionDef):
+                    self.assertLessEqual(node.end_lineno - node.lineno + 1, 40, node.name)
+
+    def test_no_warning(self):
+        for path, text, tree in each_file():
+            with warnings.catch_warnings():
+                warnings.simplefilter("error")
+                compile(text, path.name, "exec")
+
+    def test_barred_words_and_nodes(self):
+        for path, text, tree in each_file():
+            self.assertEqual(set(re.findall(r"\w+", text)) & BARRED_WORDS, set())
+            for node in ast.walk(tree):
+                self.assertNotIsInstance(node, BARRED_NODES)
+                if isinstance(node, ast.Constant):
+                    self.assertNotIsInstance(node.value, (float, complex))
+                    self.assertFalse(isinstance(node.value, str) and "%" in node.value)
+                if isinstance(node, ast.Compare) and any(isinstance(op, (ast.Is, ast.IsNot)) for op in node.ops):
+                    self.assertIn(getattr(node.comparators[0], "value", ""), (None, True, False))
+
+    def test_imports_name_files_of_the_package(self):
+        for path, text, tree in each_file():
+            for node in ast.walk(tree):
+                if isinstance(node, ast.ImportFrom):
+                    self.assertEqual(node.level, 0)
+                    package, name = node.module.split(".")
+                    self.assertEqual(package, "hayherd")
+                    defined = ast.parse((FOLDER / (name + ".py")).read_text()).body
+                    for alias in node.names:
+                        self.assertIn(alias.name, [getattr(part, "name", None) for part in defined])
+
+    def test_names(self):
+        for path, text, tree in each_file():
+            bound = set(bound_names(tree))
+            for name in bound - {"__init__", "__eq__", "__len__", "__repr__", "__str__"}:
+                self.assertFalse(name.startswith("_"), name)
+                self.assertNotIn(name, dir(builtins))
+            for node in ast.walk(tree):
+                if isinstance(node, ast.Name) and node.id not in bound:
+                    self.assertIn(node.id, BUILTINS)
+
+
+if __name__ == "__main__":
+    unittest.main()
