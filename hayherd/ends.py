@@ -50,9 +50,14 @@ def first(row):
     return row_and_order(line, strengths, tolls)
 
 
+def places_of(order):
+    """The place in order of each beast."""
+    return {who: place for place, who in enumerate(order)}
+
+
 def turned_about(order):
     """The rising list of pairs (one, other), one below other, that stand in order the other way round."""
-    place_of = {who: place for place, who in enumerate(order)}
+    place_of = places_of(order)
     many = len(order)
     return [
         (one, other)

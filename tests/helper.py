@@ -3,6 +3,8 @@
 import itertools
 import random
 
+from hayherd.rows import fallen, may_fall, may_pass, passed
+
 FAR = 10 ** 12
 ODD_PLACES = (-FAR, -25, -3, -2, -1, 24, 25, FAR, 10 ** 30)
 
@@ -42,3 +44,47 @@ def drawn_rows():
 def all_rows():
     yield from small_rows()
     yield from drawn_rows()
+
+
+def few_rows():
+    """Rows so small that all rows that they come to can be gone through."""
+    yield from list(small_rows())[::7]
+    draw = random.Random(8)
+    for many in (4, 4, 4, 4, 5, 5):
+        for high, toll in ((2, 1), (5, 2), (9, 3), (20, 9), (3, 0)):
+            yield tuple((draw.randint(-high, high), draw.randint(0, toll)) for beast in range(many))
+    yield ((0, 0), (1, 0), (2, 0), (3, 0), (4, 0))
+    yield ((9, 1), (7, 1), (5, 1), (3, 1), (1, 1))
+    yield ((5, 1),) * 5
+    yield ((-FAR, 10 ** 9), (FAR, 10 ** 9), (0, 0), (-FAR, 0))
+
+
+def steps_from(row, order):
+    """Each DEED that can be done now, with the ROW and the ORDER behind it."""
+    for word, places, back in (("pass", may_pass(row), 1), ("fall", may_fall(row), 0)):
+        for place in places:
+            then = passed(row, place) if word == "pass" else fallen(row, place)
+            stand = list(order)
+            ahead = place - back
+            stand[ahead], stand[ahead + 1] = stand[ahead + 1], stand[ahead]
+            yield (word, place), then, tuple(stand)
+
+
+def reached(row):
+    """All that passings and fallings, done one by one, lead to: the ROW by the ORDER."""
+    own = tuple(range(len(row)))
+    rows, waiting = {own: row}, [own]
+    while waiting:
+        order = waiting.pop()
+        for deed, then, stand in steps_from(rows[order], order):
+            if stand not in rows:
+                rows[stand] = then
+                waiting.append(stand)
+            # One ORDER, one ROW, whatever way leads there.
+            assert rows[stand] == then
+    return rows
+
+
+def stair(many, toll=0):
+    """A row in which each one passes all ahead of it."""
+    return tuple((step * (toll * many + 1), toll) for step in range(many))

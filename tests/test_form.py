@@ -20,6 +20,11 @@ BARRED_WORDS = set("""
 type typing typing_extensions enum Enum IntEnum StrEnum Flag IntFlag Generic Protocol ABC ABCMeta namedtuple
 NamedTuple TypedDict TYPE_CHECKING abstractmethod register mro elements open input version_info
 """.split())
+METHODS = set("""
+append clear copy count endswith extend find get index insert isalnum isalpha isdigit islower isspace isupper items
+join keys ljust lower lstrip partition pop remove replace reverse rfind rjust rpartition rsplit rstrip setdefault
+split splitlines startswith strip update upper values zfill bit_length add discard sort
+""".split())
 BARRED_NODES = (
     ast.Import, ast.Global, ast.AsyncFunctionDef, ast.AsyncFor, ast.AsyncWith, ast.Await, ast.Div, ast.MatMult,
 )
@@ -37,6 +42,15 @@ def bound_names(tree):
             yield node.asname or node.name
 
 
+def top_names(part):
+    """The names that a statement at module level binds."""
+    if isinstance(part, ast.ImportFrom):
+        return [alias.asname or alias.name for alias in part.names]
+    if isinstance(part, ast.Assign):
+        return [target.id for target in part.targets]
+    return [part.name] if isinstance(part, (ast.FunctionDef, ast.ClassDef)) else []
+
+
 def each_file():
     for path in FILES:
         text = path.read_bytes().decode("ascii")
@@ -47,7 +61,8 @@ class Form(unittest.TestCase):
     def test_the_folder_has_its_files_alone(self):
         found = {path.name for path in FOLDER.iterdir()} - {"__pycache__"}
         self.assertEqual(found, {path.name for path in FILES})
-        self.assertLessEqual({"__init__.py", "errors.py", "rows.py", "ends.py"}, found)
+        named = ("__init__", "errors", "rows", "ends", "turned", "never", "kept", "ways")
+        self.assertLessEqual({name + ".py" for name in named}, found)
 
     def test_characters_and_sizes(self):
         for path, text, tree in each_file():
@@ -87,6 +102,36 @@ class Form(unittest.TestCase):
                     defined = ast.parse((FOLDER / (name + ".py")).read_text()).body
                     for alias in node.names:
                         self.assertIn(alias.name, [getattr(part, "name", None) for part in defined])
+
+    def test_no_two_files_import_from_each_other(self):
+        imported = {
+            path.stem: {node.module.split(".")[1] for node in ast.walk(tree) if isinstance(node, ast.ImportFrom)}
+            for path, text, tree in each_file()
+        }
+        while imported:
+            free = [name for name in imported if not imported[name]]
+            self.assertNotEqual(free, [], imported)
+            imported = {name: imported[name] - set(free) for name in imported if name not in free}
+
+    def test_each_name_is_bound_once_and_hides_no_import(self):
+        for path, text, tree in each_file():
+            tops = [name for part in tree.body for name in top_names(part)]
+            self.assertEqual(len(tops), len(set(tops)), tops)
+            taken = {alias.name for part in tree.body if isinstance(part, ast.ImportFrom) for alias in part.names}
+            rest = [part for part in tree.body if not isinstance(part, ast.ImportFrom)]
+            inner = set(bound_names(ast.Module(rest, [])))
+            self.assertEqual(inner & taken, set(), path.name)
+            read = {node.id for node in ast.walk(tree) if isinstance(node, ast.Name)}
+            self.assertLessEqual(taken, read, path.name)
+
+    def test_methods_of_builtin_values(self):
+        own = set()
+        for path, text, tree in each_file():
+            own |= {node.name for node in ast.walk(tree) if isinstance(node, ast.FunctionDef)}
+        for path, text, tree in each_file():
+            for node in ast.walk(tree):
+                if isinstance(node, ast.Call) and isinstance(node.func, ast.Attribute):
+                    self.assertIn(node.func.attr, METHODS | own)
 
     def test_names(self):
         for path, text, tree in each_file():

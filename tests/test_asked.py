@@ -1,0 +1,146 @@
+"""What holds of all that is asked: names of arguments, kinds of what is told, and that asking changes nothing."""
+
+import copy
+import inspect
+import unittest
+
+from hayherd.errors import NotKept, NoOrder, NoWay
+from hayherd.kept import comes_to, kept_pairs, number_of, order_at, orders_many, span, stands
+from hayherd.never import ever, least_strength, never, shows_never, stopped_by
+from hayherd.turned import turned, weighed
+from hayherd.ways import how_far, nearer, shows_way, way_at, way_to, ways_many
+
+ROW = ((5, 1), (7, 2), (3, 0), (9, 4))
+ALONE = ((5, 1),)
+ALIKE = ((5, 1),) * 5
+
+# what is asked, what it's handed by name, and what is told
+ASKED = (
+    (turned, {"row": ROW}, ((-5, 1), (-6, 2), (0, 0), (-6, 4))),
+    (weighed, {"row": ROW}, [5, 6, 0, 6]),
+    (never, {"row": ROW}, [[2], [2, 3], [], []]),
+    (never, {"row": ALONE}, [[]]),
+    (never, {"row": ALIKE}, [[1, 2, 3, 4], [2, 3, 4], [3, 4], [4], []]),
+    (shows_never, {"row": ROW, "thing": [[2], [2, 3], [], []]}, True),
+    (shows_never, {"row": ROW, "thing": [[2], [2, [3]], [], []]}, False),
+    (ever, {"row": ROW, "one": 0, "other": 3}, True),
+    (ever, {"row": ROW, "one": 1, "other": 3}, False),
+    (least_strength, {"row": ROW, "one": 1, "other": 3}, 10),
+    (stopped_by, {"row": ROW, "who": 3}, 1),
+    (stopped_by, {"row": ROW, "who": 1}, None),
+    (kept_pairs, {"row": ROW}, [(1, 3)]),
+    (kept_pairs, {"row": ALONE}, []),
+    (comes_to, {"row": ROW, "order": (3, 2, 1, 0)}, False),
+    (comes_to, {"row": ROW, "order": (2, 1, 0, 3)}, True),
+    (stands, {"row": ROW, "order": (1, 0, 3, 2)}, ((6, 2), (5, 1), (9, 4), (3, 0))),
+    (orders_many, {"row": ROW}, 12),
+    (order_at, {"row": ROW, "number": 11}, (2, 1, 3, 0)),
+    (number_of, {"row": ROW, "order": (2, 1, 3, 0)}, 11),
+    (span, {"row": ROW, "who": 1}, (0, 2)),
+    (how_far, {"row": ROW, "order": (2, 1, 0, 3)}, 3),
+    (nearer, {"row": ROW, "order": (2, 1, 0, 3)}, [("fall", 1), ("pass", 1)]),
+    (nearer, {"row": ROW, "order": (0, 1, 2, 3)}, []),
+    (way_to, {"row": ROW, "order": (2, 1, 0, 3)}, [("fall", 1), ("fall", 0), ("pass", 2)]),
+    (way_to, {"row": ALONE, "order": (0,)}, []),
+    (shows_way, {"row": ROW, "order": (1, 0, 3, 2), "thing": [("pass", 3), ("pass", 1)]}, True),
+    (shows_way, {"row": ROW, "order": (1, 0, 3, 2), "thing": [["pass", 3], ("pass", [1])]}, False),
+    (ways_many, {"row": ROW}, 2),
+    (way_at, {"row": ROW, "number": 1}, [3, 1, 2]),
+    (way_at, {"row": ALONE, "number": 0}, []),
+)
+
+
+def lists_in(told):
+    """A told list, and all lists in it."""
+    if not isinstance(told, (list, tuple)):
+        return []
+    inner = [found for part in told for found in lists_in(part)]
+    return inner + [told] if isinstance(told, list) else inner
+
+
+class Asked(unittest.TestCase):
+    # Written out: 1 is True to Python, and a list that is none of the asker's may be equal.
+    def assert_told(self, told, want):
+        self.assertEqual(repr(told), repr(want))
+
+    def test_by_place(self):
+        for ask, handed, want in ASKED:
+            self.assert_told(ask(*handed.values()), want)
+
+    def test_by_name(self):
+        for ask, handed, want in ASKED:
+            self.assertEqual(list(inspect.signature(ask).parameters), list(handed))
+            self.assert_told(ask(**handed), want)
+            self.assert_told(ask(**dict(reversed(handed.items()))), want)
+
+    def test_some_by_place_and_some_by_name(self):
+        for ask, handed, want in ASKED:
+            named = dict(handed)
+            self.assert_told(ask(named.pop("row"), **named), want)
+
+    def test_asked_again_in_any_order(self):
+        for step in range(3):
+            for ask, handed, want in ASKED[::-1] if step == 1 else ASKED:
+                self.assert_told(ask(**handed), want)
+
+    def test_a_told_list_that_is_changed(self):
+        for ask, handed, want in ASKED:
+            for found in lists_in(ask(**handed)):
+                found.append(99)
+                found.reverse()
+            for found in lists_in(ask(**handed)):
+                found.clear()
+            self.assert_told(ask(**handed), want)
+        self.test_by_place()
+
+    def test_no_two_told_lists_are_the_same(self):
+        kept = [ask(**handed) for step in range(2) for ask, handed, want in ASKED]
+        found = lists_in(kept)
+        self.assertEqual(len({id(part) for part in found}), len(found))
+
+    def test_what_is_told_is_not_what_was_handed_in(self):
+        for ask, handed, want in ASKED:
+            before = {id(part) for part in lists_in(list(handed.values()))}
+            self.assertFalse(before & {id(part) for part in lists_in(ask(**handed))})
+
+    def test_what_is_handed_in_stays(self):
+        for ask, handed, want in ASKED:
+            before = copy.deepcopy(handed)
+            ask(**handed)
+            self.assert_told(handed, before)
+
+    def test_a_thing_that_is_changed_behind(self):
+        table = [[2], [2, 3], [], []]
+        self.assertIs(shows_never(ROW, table), True)
+        table[2].append(3)
+        self.assertIs(shows_never(ROW, table), False)
+        table[2].pop()
+        self.assertIs(shows_never(ROW, table), True)
+        way = [("pass", 3), ("pass", 1)]
+        self.assertIs(shows_way(ROW, (1, 0, 3, 2), way), True)
+        way.append(("fall", 0))
+        self.assertIs(shows_way(ROW, (1, 0, 3, 2), way), False)
+
+    def test_a_refusal_changes_nothing(self):
+        for ask, second, refusal, want in (
+            (stands, (3, 2, 1, 0), NotKept, (1, 3)), (number_of, (3, 2, 1, 0), NotKept, (1, 3)),
+            (how_far, (3, 2, 1, 0), NotKept, (1, 3)), (nearer, (3, 2, 1, 0), NotKept, (1, 3)),
+            (way_to, (3, 2, 1, 0), NotKept, (1, 3)), (order_at, 12, NoOrder, 12), (way_at, 2, NoWay, 2),
+        ):
+            for step in range(2):
+                with self.assertRaises(refusal) as caught:
+                    ask(ROW, second)
+                self.assert_told(list(vars(caught.exception).values()), [want])
+        self.test_by_place()
+
+    def test_what_was_told_may_be_handed_in_again(self):
+        far = ((10 ** 12, 10 ** 9),) * 12 + ((2 * 10 ** 12, 10 ** 9),) * 12
+        then = turned(turned(stands(far, order_at(ROW, 0) + tuple(range(4, 24)))))
+        self.assertEqual(then, far)
+        self.assertIs(shows_never(then, never(then)), True)
+        order = tuple(range(12, 24)) + tuple(range(12))
+        self.assertIs(shows_way(far, order, way_to(far, order)), True)
+
+
+if __name__ == "__main__":
+    unittest.main()
