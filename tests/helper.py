@@ -88,3 +88,54 @@ def reached(row):
 def stair(many, toll=0):
     """A row in which each one passes all ahead of it."""
     return tuple((step * (toll * many + 1), toll) for step in range(many))
+
+
+def drawn_deeds(row, many):
+    """So many DEEDs that can be done, one behind the other, or fewer where none can."""
+    draw, deeds = random.Random(many), []
+    now, order = row, tuple(range(len(row)))
+    for step in range(many):
+        steps = list(steps_from(now, order))
+        if not steps:
+            break
+        deed, now, order = draw.choice(steps)
+        deeds.append(deed)
+    return deeds
+
+
+def foremost(places, step):
+    return places[0]
+
+
+def hindmost(places, step):
+    return places[-1]
+
+
+def middle(places, step):
+    return places[len(places) // 2]
+
+
+def by_turns(places, step):
+    return places[step % len(places)]
+
+
+def drawn(places, step):
+    return random.Random(step).choice(places)
+
+
+CHOICES = (foremost, hindmost, middle, by_turns, drawn)
+
+
+def passed_till_last(row, choose):
+    """Row, ORDER and the sorted list of pairs (passed one, passer), one passing after the other."""
+    order, pairs = list(range(len(row))), []
+    places = may_pass(row)
+    while places:
+        place = choose(places, len(pairs))
+        row = passed(row, place)
+        pairs.append((order[place - 1], order[place]))
+        order[place - 1], order[place] = order[place], order[place - 1]
+        places = may_pass(row)
+        # No pair does it twice: where it went on for ever, the test shall fail and not hang.
+        assert len(pairs) <= len(row) * (len(row) - 1) // 2
+    return row, tuple(order), sorted(pairs)

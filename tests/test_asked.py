@@ -5,6 +5,9 @@ import inspect
 import unittest
 
 from hayherd.errors import NotKept, NoOrder, NoWay
+from hayherd.fed import asking, fed, least_feed, unlike
+from hayherd.hay import hay, hay_between
+from hayherd.joined import across, joined, last_of, piece
 from hayherd.kept import comes_to, kept_pairs, number_of, order_at, orders_many, span, stands
 from hayherd.never import ever, least_strength, never, shows_never, stopped_by
 from hayherd.turned import turned, weighed
@@ -47,6 +50,22 @@ ASKED = (
     (ways_many, {"row": ROW}, 2),
     (way_at, {"row": ROW, "number": 1}, [3, 1, 2]),
     (way_at, {"row": ALONE, "number": 0}, []),
+    (fed, {"row": ROW, "who": 1, "by": -3}, ((5, 1), (4, 2), (3, 0), (9, 4))),
+    (asking, {"row": ROW, "who": 3, "toll": 0}, ((5, 1), (7, 2), (3, 0), (9, 0))),
+    (unlike, {"row": ROW, "other": ROW}, ([], [])),
+    (unlike, {"row": ROW, "other": ALIKE[:4]}, ([], [(0, 1), (0, 3), (2, 3)])),
+    (least_feed, {"row": ROW, "who": 2, "place": 1}, 6),
+    (least_feed, {"row": ROW, "who": 2, "place": 3}, 0),
+    (hay, {"row": ROW}, [(2, 0), (0, 1), (0, 0), (0, 1)]),
+    (hay, {"row": ALONE}, [(0, 0)]),
+    (hay_between, {"row": ROW, "order": (2, 1, 0, 3)}, [(1, 0), (0, 1), (0, 0), (0, 0)]),
+    (hay_between, {"row": ALONE, "order": (0,)}, [(0, 0)]),
+    (joined, {"one": ROW[:1], "other": ROW[1:]}, ROW),
+    (across, {"one": ROW[:2], "other": ROW[2:]}, [(0, 1)]),
+    (across, {"one": ALONE, "other": ALONE}, []),
+    (piece, {"row": ROW, "begin": 1, "end": 3}, ((7, 2), (3, 0))),
+    (last_of, {"rows": [ROW[:2], ROW[2:]]}, ((6, 2), (8, 4), (5, 1), (3, 0))),
+    (last_of, {"rows": (ALONE,)}, ALONE),
 )
 
 
@@ -75,8 +94,8 @@ class Asked(unittest.TestCase):
 
     def test_some_by_place_and_some_by_name(self):
         for ask, handed, want in ASKED:
-            named = dict(handed)
-            self.assert_told(ask(named.pop("row"), **named), want)
+            foremost, *names = handed
+            self.assert_told(ask(handed[foremost], **{name: handed[name] for name in names}), want)
 
     def test_asked_again_in_any_order(self):
         for step in range(3):
@@ -120,12 +139,17 @@ class Asked(unittest.TestCase):
         self.assertIs(shows_way(ROW, (1, 0, 3, 2), way), True)
         way.append(("fall", 0))
         self.assertIs(shows_way(ROW, (1, 0, 3, 2), way), False)
+        rows = [ALONE]
+        told = last_of(rows)
+        rows.append(((9, 0),))
+        self.assertEqual(told, ALONE)
+        self.assertEqual(last_of(rows), ((8, 0), (5, 1)))
 
     def test_a_refusal_changes_nothing(self):
         for ask, second, refusal, want in (
             (stands, (3, 2, 1, 0), NotKept, (1, 3)), (number_of, (3, 2, 1, 0), NotKept, (1, 3)),
             (how_far, (3, 2, 1, 0), NotKept, (1, 3)), (nearer, (3, 2, 1, 0), NotKept, (1, 3)),
-            (way_to, (3, 2, 1, 0), NotKept, (1, 3)), (order_at, 12, NoOrder, 12), (way_at, 2, NoWay, 2),
+            (way_to, (3, 2, 1, 0), NotKept, (1, 3)), (hay_between, (3, 2, 1, 0), NotKept, (1, 3)), (order_at, 12, NoOrder, 12), (way_at, 2, NoWay, 2),
         ):
             for step in range(2):
                 with self.assertRaises(refusal) as caught:

@@ -1,49 +1,10 @@
-import random
 import unittest
 
 from hayherd.ends import fallings, first, is_first, is_last, last, passings
 from hayherd.rows import fallen, is_order, is_row, may_fall, may_pass, passed
-from tests.helper import FAR, all_rows, drawn_rows, small_rows
+from tests.helper import CHOICES, FAR, all_rows, drawn_rows, passed_till_last, small_rows
 
 ROW = ((5, 1), (7, 2), (3, 0), (9, 4))
-
-
-def foremost(places, step):
-    return places[0]
-
-
-def hindmost(places, step):
-    return places[-1]
-
-
-def middle(places, step):
-    return places[len(places) // 2]
-
-
-def by_turns(places, step):
-    return places[step % len(places)]
-
-
-def drawn(places, step):
-    return random.Random(step).choice(places)
-
-
-CHOICES = (foremost, hindmost, middle, by_turns, drawn)
-
-
-def passed_till_last(row, choose):
-    """Row, ORDER and the sorted list of pairs (passed one, passer), one passing after the other."""
-    order, pairs = list(range(len(row))), []
-    places = may_pass(row)
-    while places:
-        place = choose(places, len(pairs))
-        row = passed(row, place)
-        pairs.append((order[place - 1], order[place]))
-        order[place - 1], order[place] = order[place], order[place - 1]
-        places = may_pass(row)
-        # No pair does it twice: where it went on for ever, the test shall fail and not hang.
-        assert len(pairs) <= len(row) * (len(row) - 1) // 2
-    return row, tuple(order), sorted(pairs)
 
 
 def fallen_till_first(row, choose):

@@ -61,7 +61,7 @@ class Form(unittest.TestCase):
     def test_the_folder_has_its_files_alone(self):
         found = {path.name for path in FOLDER.iterdir()} - {"__pycache__"}
         self.assertEqual(found, {path.name for path in FILES})
-        named = ("__init__", "errors", "rows", "ends", "turned", "never", "kept", "ways")
+        named = ("__init__", "errors", "rows", "ends", "turned", "never", "kept", "ways", "fed", "hay", "joined")
         self.assertLessEqual({name + ".py" for name in named}, found)
 
     def test_characters_and_sizes(self):

@@ -7,7 +7,7 @@ from hayherd.ends import fallings, first, last, passings
 from hayherd.errors import NoOrder, NotKept
 from hayherd.kept import comes_to, kept_pairs, number_of, order_at, orders_many, span, stands
 from hayherd.rows import gone, is_order, is_row, order_behind
-from tests.helper import FAR, drawn_rows, few_rows, reached, stair, steps_from
+from tests.helper import FAR, drawn_deeds, drawn_rows, few_rows, reached, stair
 
 ROW = ((5, 1), (7, 2), (3, 0), (9, 4))
 # Each with all that it comes to.
@@ -15,19 +15,6 @@ REACHED = [(row, reached(row)) for row in few_rows()]
 # Two of each strength: of these the one ahead stays ahead.
 TWINS = tuple((step // 2, 0) for step in range(12))
 LONG = (stair(12), stair(12, 3), TWINS, tuple(reversed(stair(12))), ((5, 0),) * 12)
-
-
-def drawn_deeds(row, many):
-    """So many DEEDs that can be done, one behind the other, or fewer where none can."""
-    draw, deeds = random.Random(many), []
-    now, order = row, tuple(range(len(row)))
-    for step in range(many):
-        steps = list(steps_from(now, order))
-        if not steps:
-            break
-        deed, now, order = draw.choice(steps)
-        deeds.append(deed)
-    return deeds
 
 
 def turns(order, pair):
