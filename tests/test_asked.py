@@ -4,18 +4,25 @@ import copy
 import inspect
 import unittest
 
-from hayherd.errors import NotKept, NoOrder, NoWay
+from hayherd.desk import answers
+from hayherd.errors import BadRow, BadText, NotKept, NoOrder, NoWay
 from hayherd.fed import asking, fed, least_feed, unlike
 from hayherd.hay import hay, hay_between
 from hayherd.joined import across, joined, last_of, piece
 from hayherd.kept import comes_to, kept_pairs, number_of, order_at, orders_many, span, stands
+from hayherd.lots import (
+    herd_first, herd_last, herd_of, herd_passed, herd_passings, herd_places, is_herd, row_of,
+)
 from hayherd.never import ever, least_strength, never, shows_never, stopped_by
+from hayherd.texts import row_in, row_text
 from hayherd.turned import turned, weighed
 from hayherd.ways import how_far, nearer, shows_way, way_at, way_to, ways_many
 
 ROW = ((5, 1), (7, 2), (3, 0), (9, 4))
 ALONE = ((5, 1),)
 ALIKE = ((5, 1),) * 5
+HERD = ((4, 2, 5), (9, 1, 1))
+TEXT = "fold 5:1 7:2\novertake 1\nrow"
 
 # what is asked, what it's handed by name, and what is told
 ASKED = (
@@ -66,6 +73,19 @@ ASKED = (
     (piece, {"row": ROW, "begin": 1, "end": 3}, ((7, 2), (3, 0))),
     (last_of, {"rows": [ROW[:2], ROW[2:]]}, ((6, 2), (8, 4), (5, 1), (3, 0))),
     (last_of, {"rows": (ALONE,)}, ALONE),
+    (is_herd, {"thing": HERD}, True),
+    (is_herd, {"thing": [list(HERD), [[]]]}, False),
+    (herd_of, {"row": ALIKE}, ((5, 1, 5),)),
+    (row_of, {"herd": HERD}, ((4, 2),) * 5 + ((9, 1),)),
+    (herd_last, {"herd": HERD}, ((4, 2, 3), (5, 1, 1), (4, 2, 2))),
+    (herd_first, {"herd": HERD[::-1]}, ((4, 2, 5), (19, 1, 1))),
+    (herd_passings, {"herd": HERD}, 2),
+    (herd_passed, {"herd": HERD}, [0, 2]),
+    (herd_places, {"herd": HERD}, [(0, 5), (3, 3)]),
+    (row_text, {"row": ROW}, "5:1 7:2 3:0 9:4"),
+    (row_in, {"text": "5:1 7:2 3:0 9:4"}, ROW),
+    (answers, {"text": TEXT}, ["0", "6:2 5:1"]),
+    (answers, {"text": "fold"}, []),
 )
 
 
@@ -155,6 +175,13 @@ class Asked(unittest.TestCase):
                 with self.assertRaises(refusal) as caught:
                     ask(ROW, second)
                 self.assert_told(list(vars(caught.exception).values()), [want])
+        for ask, handed, refusal, want in (
+            (row_in, "5:1 x", BadText, 1), (row_in, "", BadText, 0), (answers, "fold\nx", BadRow, 1),
+        ):
+            for step in range(2):
+                with self.assertRaises(refusal) as caught:
+                    ask(handed)
+                self.assert_told(list(vars(caught.exception).values()), [want])
         self.test_by_place()
 
     def test_what_was_told_may_be_handed_in_again(self):
@@ -164,6 +191,10 @@ class Asked(unittest.TestCase):
         self.assertIs(shows_never(then, never(then)), True)
         order = tuple(range(12, 24)) + tuple(range(12))
         self.assertIs(shows_way(far, order, way_to(far, order)), True)
+        self.assertEqual(row_in(row_text(fed(then, 0, 10 ** 30))), fed(then, 0, 10 ** 30))
+        herd = herd_last(herd_last(((0, 1, 10 ** 12), (9, 1, 10 ** 12), (50, 1, 7))))
+        self.assertIs(is_herd(herd), True)
+        self.assertEqual(herd_first(herd), ((0, 1, 10 ** 12), (9, 1, 10 ** 12), (50, 1, 7)))
 
 
 if __name__ == "__main__":

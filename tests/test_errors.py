@@ -19,8 +19,9 @@ CLASSES = (
 
 
 class Errors(unittest.TestCase):
+    # Python writes no number of so many figures as the last one has.
     def values(self, field):
-        return ((0, 1), (3, 17)) if field == "pair" else (0, 24, -5, 10 ** 30)
+        return ((0, 1), (3, 17)) if field == "pair" else (0, 24, -5, 10 ** 30, -(10 ** 5000))
 
     def test_all_eleven_are_there(self):
         self.assertEqual(len({getattr(errors, name) for name, base, field in CLASSES}), 11)
@@ -28,13 +29,13 @@ class Errors(unittest.TestCase):
     def test_made_by_place(self):
         for name, base, field in CLASSES:
             for value in self.values(field):
-                with self.subTest(name=name, value=value):
+                with self.subTest(name=name):
                     self.assertEqual(getattr(getattr(errors, name)(value), field), value)
 
     def test_made_by_name(self):
         for name, base, field in CLASSES:
             for value in self.values(field):
-                with self.subTest(name=name, value=value):
+                with self.subTest(name=name):
                     self.assertEqual(getattr(getattr(errors, name)(**{field: value}), field), value)
 
     def test_the_field_is_what_was_handed_in(self):

@@ -23,11 +23,18 @@ NamedTuple TypedDict TYPE_CHECKING abstractmethod register mro elements open inp
 METHODS = set("""
 append clear copy count endswith extend find get index insert isalnum isalpha isdigit islower isspace isupper items
 join keys ljust lower lstrip partition pop remove replace reverse rfind rjust rpartition rsplit rstrip setdefault
-split splitlines startswith strip update upper values zfill bit_length add discard sort
+split splitlines startswith strip update upper values zfill bit_length add discard
+title capitalize swapcase casefold center expandtabs removeprefix removesuffix rindex isascii isdecimal isnumeric
+istitle isidentifier isprintable translate
 """.split())
+# Generator expressions are barred in most places where a class has __eq__, so there are none at all.
 BARRED_NODES = (
     ast.Import, ast.Global, ast.AsyncFunctionDef, ast.AsyncFor, ast.AsyncWith, ast.Await, ast.Div, ast.MatMult,
+    ast.GeneratorExp,
 )
+FILE_NAMES = """
+__init__ errors rows ends turned never kept ways fed hay joined lots fold texts desk
+""".split()
 
 
 def bound_names(tree):
@@ -61,8 +68,7 @@ class Form(unittest.TestCase):
     def test_the_folder_has_its_files_alone(self):
         found = {path.name for path in FOLDER.iterdir()} - {"__pycache__"}
         self.assertEqual(found, {path.name for path in FILES})
-        named = ("__init__", "errors", "rows", "ends", "turned", "never", "kept", "ways", "fed", "hay", "joined")
-        self.assertLessEqual({name + ".py" for name in named}, found)
+        self.assertEqual({name + ".py" for name in FILE_NAMES}, found)
 
     def test_characters_and_sizes(self):
         for path, text, tree in each_file():
@@ -132,6 +138,33 @@ class Form(unittest.TestCase):
             for node in ast.walk(tree):
                 if isinstance(node, ast.Call) and isinstance(node.func, ast.Attribute):
                     self.assertIn(node.func.attr, METHODS | own)
+
+    def test_refusals_are_made_where_they_are_raised(self):
+        own = {node.name for path, text, tree in each_file() for node in tree.body if isinstance(node, ast.ClassDef)}
+        for path, text, tree in each_file():
+            for node in ast.walk(tree):
+                if isinstance(node, ast.Raise) and node.exc is not None:
+                    self.assertIsInstance(node.exc, ast.Call)
+                    self.assertIn(node.exc.func.id, own)
+                if isinstance(node, ast.ExceptHandler):
+                    caught = node.type.elts if isinstance(node.type, ast.Tuple) else [node.type]
+                    self.assertLessEqual({name.id for name in caught}, own)
+
+    def test_no_name_is_a_method_and_an_attribute(self):
+        methods, fields = set(), set()
+        for path, text, tree in each_file():
+            for node in ast.walk(tree):
+                if isinstance(node, ast.ClassDef):
+                    methods |= {part.name for part in node.body if isinstance(part, ast.FunctionDef)}
+                if isinstance(node, ast.Attribute) and isinstance(node.ctx, ast.Store):
+                    fields.add(node.attr)
+        self.assertEqual(methods & fields, set())
+        self.assertEqual((methods | fields) & METHODS, set())
+        read = {
+            node.attr for path, text, tree in each_file() for node in ast.walk(tree)
+            if isinstance(node, ast.Attribute) and isinstance(node.ctx, ast.Load)
+        }
+        self.assertLessEqual(read, methods | fields | METHODS)
 
     def test_names(self):
         for path, text, tree in each_file():
